@@ -1,0 +1,1 @@
+"""Conekin: forms of three letters, and those beside them."""
