@@ -73,6 +73,14 @@ class Language(unittest.TestCase):
             self.assertEqual([one for one in told if one in BARRED_NAMES | BUILTINS], [], name)
             self.assertEqual([one for one in told if one.startswith("_") and not one.startswith("__")], [], name)
 
+    def test_no_local_name_is_that_of_an_import_or_a_class(self):
+        for name, text, tree in sources():
+            taken = [alias.asname or alias.name for node in tree.body if isinstance(node, ast.ImportFrom)
+                     for alias in node.names]
+            taken += [node.name for node in tree.body if isinstance(node, ast.ClassDef)]
+            told = list(bound_names(tree))
+            self.assertEqual([one for one in taken if told.count(one) > 1], [], name)
+
     def test_only_known_names_are_read(self):
         for name, text, tree in sources():
             known = BUILTINS | set(bound_names(tree))

@@ -4,13 +4,36 @@ import copy
 import unittest
 
 from conekin.errors import NoBasis
-from conekin.tables import back, carried, cover, determinant, is_basis, product, rest, turned_over
+from conekin.tables import back, carried, cover, determinant, is_basis, is_row, is_table, is_whole, product, rest
+from conekin.tables import turned_over
 from tests import samples
 from tests.samples import NOUGHT, ONE, THIRTY
 
 
 def diagonal(number):
     return [[number if i == j else 0 for j in range(3)] for i in range(3)]
+
+
+class Kinds(unittest.TestCase):
+    """Point 2: what a whole number, a row and a table are."""
+
+    def test_whole_numbers(self):
+        for thing in (0, 1, -1, THIRTY, -THIRTY):
+            self.assertIs(is_whole(thing), True)
+        for thing in (True, False, None, "", "1", [], [1], (), (1,)):
+            self.assertIs(is_whole(thing), False)
+
+    def test_rows(self):
+        for thing in ([0, 0, 0], [1, -2, THIRTY]):
+            self.assertIs(is_row(thing), True)
+        for thing in ((0, 0, 0), [], [0, 0], [0] * 4, [0, 0, True], [False, 0, 0], [0, None, 0], "abc", ["1"] * 3, 3):
+            self.assertIs(is_row(thing), False)
+
+    def test_tables(self):
+        for table in samples.tables(1):
+            self.assertIs(is_table(table), True)
+        for thing in samples.any_things() + samples.wrong_shapes(ONE) + [[[0, 0, True]] * 3]:
+            self.assertIs(is_table(thing), False)
 
 
 class Multiplied(unittest.TestCase):
