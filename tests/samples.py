@@ -2,8 +2,11 @@
 
 import copy
 import random
+import signal
+from contextlib import contextmanager
 from fractions import Fraction
-from itertools import permutations
+from itertools import permutations, product
+from math import isqrt
 
 ONE = [[1, 0, 0], [0, 1, 0], [0, 0, 1]]
 NOUGHT = [[0, 0, 0], [0, 0, 0], [0, 0, 0]]
@@ -83,6 +86,98 @@ def bases(bound, steps=12, many=30):
     return told
 
 
+def even_table(a, b, c, d, e, f):
+    """The table of the numbers in the order of point 11."""
+    return [[a, d, e], [d, b, f], [e, f, c]]
+
+
+def order_list(form):
+    """The numbers of a form in the order of point 11."""
+    return [form[0][0], form[1][1], form[2][2], form[0][1], form[0][2], form[1][2]]
+
+
+# Near forms of half determinants from 2 to 200, of many turnings and of few, round ones and flat ones; the second one
+# is the sum of three squares.
+NEAR_FORMS = [
+    LEAST_HALF, even_table(2, 2, 2, 0, 0, 0), even_table(2, 2, 2, 1, 0, 0), even_table(2, 4, 6, 1, -1, 0),
+    even_table(2, 2, 6, -1, 0, 0), even_table(4, 4, 4, 2, 2, 2), even_table(4, 6, 8, -1, 1, 2),
+    even_table(6, 6, 6, 2, -2, 1), even_table(8, 8, 8, 4, 3, 4), even_table(2, 2, 100, 0, 0, 0),
+    even_table(2, 2, 132, 1, 0, 0), even_table(2, 14, 16, 1, 1, 7),
+]
+
+
+def small_forms(half):
+    """All tables of a half determinant that are as point 13 says of least forms: each least form is one of them."""
+    for a, b in product(range(2, 2 * half + 1, 2), repeat=2):
+        if a <= b and a * b * b <= 4 * half:
+            for d, e, f in product(range(-a // 2, a // 2 + 1), range(-a // 2, a // 2 + 1), range(-b // 2, b // 2 + 1)):
+                c, left = divmod(2 * half + a * f * f - 2 * d * e * f + b * e * e, a * b - d * d)
+                if left == 0 and c % 2 == 0 and c >= b and a * b * c <= 4 * half:
+                    yield even_table(a, b, c, d, e, f)
+
+
+def far_bases(form):
+    """Bases that carry a form to one of great numbers, none of more than thirty figures."""
+    told = bases(9, steps=8) + bases(200, steps=8) + bases(5000, steps=8) + slanted_bases() + grown_bases(form)
+    return [basis for basis in told if is_within_thirty(plain_carried(form, basis))]
+
+
+def is_within_thirty(table):
+    return max(abs(number) for row in table for number in row) <= THIRTY
+
+
+def slanted_bases():
+    """Bases with few great numbers in them."""
+    many, more = 10 ** 13 + 7, 3 * 10 ** 6 + 1
+    told = [[[1, 0, 0], [0, 1, 0], [many, -many, 1]], [[1, many, 0], [0, 1, 0], [0, 0, -1]]]
+    return told + [[[1, 0, 0], [more, 1, 0], [more, more, 1]], [[0, 0, 1], [0, -1, more], [1, more, more ** 2]]]
+
+
+def grown_bases(form):
+    """Powers of bases, each the last one that carries the form to numbers of thirty figures."""
+    starts = [[[0, 1, 0], [0, 0, 1], [1, 1, 1]], [[0, 1, 0], [0, 0, 1], [1, 0, -1]]]
+    starts += [[[0, -1, 1], [1, 0, 0], [-1, 1, 0]], [[2, 2, -1], [1, 0, -1], [-1, -1, 1]]]
+    told = []
+    for start in starts:
+        basis, grown = ONE, start
+        while is_within_thirty(plain_carried(form, grown)):
+            basis, grown = grown, plain_product(start, grown)
+        told.append(basis)
+    return told
+
+
+@contextmanager
+def in_time(seconds):
+    """Fails what is asked within it where it goes on for longer, as going through a great box would."""
+    def out_of_time(number, frame):
+        raise AssertionError(f"not done within {seconds} seconds")
+
+    before = signal.signal(signal.SIGALRM, out_of_time)
+    signal.alarm(seconds)
+    try:
+        yield
+    finally:
+        signal.alarm(0)
+        signal.signal(signal.SIGALRM, before)
+
+
+def lists_in(thing):
+    """Each list in a thing, once for each place where it stands."""
+    told = [thing] if isinstance(thing, list) else []
+    if isinstance(thing, (list, tuple)):
+        for one in thing:
+            told += lists_in(one)
+    return told
+
+
+def spoil(thing):
+    """Changes all that can be changed in a thing."""
+    for one in lists_in(thing):
+        one.reverse()
+        one.append(77)
+        one[0] = None
+
+
 def plain_product(one, other):
     told = copy.deepcopy(NOUGHT)
     for i in range(3):
@@ -115,6 +210,64 @@ def plain_pairing(table, one, other):
         for j in range(3):
             total += one[i] * table[i][j] * other[j]
     return total
+
+
+def plain_worth(table, row):
+    return plain_pairing(table, row, row) // 2
+
+
+def plain_by_basis(row, basis):
+    """The row that is told by numbers of times the rows of a basis."""
+    return [sum(row[k] * basis[k][j] for k in range(3)) for j in range(3)]
+
+
+def plain_back(basis):
+    """The back of a basis, by all minors written out."""
+    (a, b, c), (d, e, f), (g, h, i) = basis
+    unit = plain_determinant(basis)
+    told = [[e * i - f * h, c * h - b * i, b * f - c * e], [f * g - d * i, a * i - c * g, c * d - a * f],
+            [d * h - e * g, b * g - a * h, a * e - b * d]]
+    return [[unit * number for number in row] for row in told]
+
+
+def plain_rows(form, n):
+    """All rows of each worth from 0 to n, by going through the box in which they lie."""
+    (a, d, e), (_, b, f), (_, _, c) = form
+    whole = plain_determinant(form)
+    bounds = [isqrt(2 * n * corner // whole) for corner in (b * c - f * f, a * c - e * e, a * b - d * d)]
+    told = [[] for worth in range(n + 1)]
+    for x, y, z in product(*[range(-bound, bound + 1) for bound in bounds]):
+        worth = (a * x * x + b * y * y + c * z * z) // 2 + d * x * y + e * x * z + f * y * z
+        if worth <= n:
+            told[worth].append([x, y, z])
+    return told
+
+
+def plain_least(form):
+    """The least list of point 11, by going through the bases made of rows of worths to a quarter of the determinant.
+
+    Point 13 says that the diagonal of a least form rises, its product being at most twice the determinant; as the
+    first two numbers are 2 at least, the third one is at most half of the determinant.
+    """
+    told = plain_rows(form, plain_determinant(form) // 4)
+    rows = [(2 * worth, row) for worth in range(1, len(told)) for row in told[worth]]
+    best = [len(rows) ** 9] * 6
+    for a, (x, y, z) in rows:
+        if a > best[0]:
+            break
+        for b, other in rows:
+            if [a, b] > best[:2]:
+                break
+            u, v, w = other
+            i, j, k = y * w - z * v, z * u - x * w, x * v - y * u
+            for c, third in rows:
+                if [a, b, c] > best[:3]:
+                    break
+                if i * third[0] + j * third[1] + k * third[2] in (1, -1):
+                    mixed = plain_pairing(form, [x, y, z], other)
+                    far = plain_pairing(form, [x, y, z], third)
+                    best = min(best, [a, b, c, mixed, far, plain_pairing(form, other, third)])
+    return best
 
 
 def gives_above_nought(table):

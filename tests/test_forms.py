@@ -8,13 +8,9 @@ from itertools import product as every
 from conekin.errors import NoForm, TooGreat
 from conekin.forms import half, is_form, low_row, pairing, worth
 from tests import samples
-from tests.samples import LEAST_HALF, NOUGHT, ONE, THIRTY
+from tests.samples import LEAST_HALF, NOUGHT, ONE, THIRTY, even_table
 
 TWOS = [[2, 0, 0], [0, 2, 0], [0, 0, 2]]
-
-
-def even_table(a, b, c, d, e, f):
-    return [[a, d, e], [d, b, f], [e, f, c]]
 
 
 def small_tables():

@@ -109,6 +109,27 @@ class Language(unittest.TestCase):
                     self.assertRegex(node.module, r"^conekin\.[a-z]+$", name)
                     self.assertNotIn("*", [alias.name for alias in node.names], name)
 
+    def test_imports_name_the_file_that_defines_the_name(self):
+        defined, imported = {}, {}
+        for name, text, tree in sources():
+            module = "conekin." + name.removesuffix(".py")
+            defined[module] = {node.name for node in tree.body if isinstance(node, (ast.FunctionDef, ast.ClassDef))}
+            defined[module] |= {target.id for node in tree.body if isinstance(node, ast.Assign)
+                                for target in node.targets}
+            imported[module] = [node for node in tree.body if isinstance(node, ast.ImportFrom)]
+        for module, nodes in imported.items():
+            for node in nodes:
+                self.assertEqual([alias.name for alias in node.names if alias.name not in defined[node.module]], [])
+
+    def test_no_two_files_import_from_each_other(self):
+        left = {"conekin." + name.removesuffix(".py"): {node.module for node in tree.body
+                if isinstance(node, ast.ImportFrom)} for name, text, tree in sources()}
+        while left:
+            done = [module for module in left if not left[module] & set(left)]
+            self.assertNotEqual(done, [], sorted(left))
+            for module in done:
+                del left[module]
+
     def test_what_is_not_used(self):
         for name, text, tree in sources():
             for node in ast.walk(tree):

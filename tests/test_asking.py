@@ -1,0 +1,142 @@
+"""Points 2 and 8 of all functions that take forms of half determinants to 200."""
+
+import copy
+import unittest
+
+from conekin.cone import lift, line_of, lines
+from conekin.errors import NoForm, TooGreat
+from conekin.least import alike, least
+from conekin.rows import counts_to, how_many, least_worth, rows_of
+from conekin.turnings import turnings, turnings_many
+from tests import samples
+from tests.samples import LEAST_HALF, NOUGHT, ONE, even_table
+
+SQUARES = even_table(2, 2, 2, 0, 0, 0)
+FAR = [[2, 11, 0], [11, 62, 0], [0, 0, 6]]
+
+CALLS = [
+    ("rows_of", rows_of, (1,)), ("rows_of", rows_of, (0,)), ("rows_of", rows_of, (5,)), ("how_many", how_many, (4,)),
+    ("counts_to", counts_to, (6,)), ("least_worth", least_worth, ()), ("least", least, ()),
+    ("turnings", turnings, ()), ("turnings_many", turnings_many, ()), ("lines", lines, (7,)), ("lines", lines, (13,)),
+    ("line_of", line_of, (7, [3, -2, 8])), ("alike", alike, (SQUARES,)),
+    ("alike", lambda one, other: alike(other, one), (SQUARES,)),
+]
+
+
+def asked_of(form):
+    """All calls, with a list of what is handed in, such as can be asked of a form."""
+    told = [(name, call, [form] + list(more)) for name, call, more in CALLS]
+    told.append(("alike", alike, [form, form]))
+    for line in lines(form, 7):
+        told.append(("line_of", line_of, [form, 7, [3 * number - 7 for number in line]]))
+        told.append(("line_of", line_of, [form, 7, line]))
+        told.append(("lift", lift, [form, 7, line]))
+    return told
+
+
+class Bounds(unittest.TestCase):
+    def calls(self, form):
+        for name, call, more in CALLS + [("lift", lift, (7, [0, 1, 2]))]:
+            yield name, lambda: call(copy.deepcopy(form), *copy.deepcopy(more))
+
+    def test_no_form_of_any_thing(self):
+        things = samples.any_things() + samples.wrong_shapes(SQUARES) + [NOUGHT, ONE]
+        things += [even_table(2, 2, 2, -1, -1, -1), even_table(-2, -2, 2, 0, 0, 0), [[2, 1, 0], [0, 2, 0], [0, 0, 2]]]
+        things += [even_table(2, 2, 3, 0, 0, 0), [[2, False, False], [False, 2, False], [False, False, 2]]]
+        things += [even_table(2, 2, -1000, 0, 0, 0), samples.wrong_shapes(even_table(90, 90, 90, 0, 0, 0))]
+        for thing in things:
+            for name, call in self.calls(thing):
+                with self.subTest(name=name, thing=thing), self.assertRaises(NoForm):
+                    call()
+
+    def test_too_great(self):
+        forms = [even_table(2, 2, 134, 1, 0, 0), even_table(2, 2, 102, 0, 0, 0), even_table(90, 90, 90, 1, 1, 1)]
+        forms += [samples.plain_carried(forms[0], basis) for basis in samples.far_bases(forms[0])[::9]]
+        for form in forms:
+            for name, call in self.calls(form):
+                with self.subTest(name=name, form=form), self.assertRaises(TooGreat):
+                    call()
+
+    def test_the_greatest_that_are_taken(self):
+        for form in (even_table(2, 2, 100, 0, 0, 0), even_table(2, 10, 20, 0, 0, 0), even_table(2, 2, 132, 1, 0, 0)):
+            for far in [form, samples.plain_carried(form, samples.far_bases(form)[-1])]:
+                for name, call, handed in asked_of(far):
+                    with self.subTest(name=name):
+                        call(*handed)
+
+
+class OwnLists(unittest.TestCase):
+    def cases(self):
+        for form in (SQUARES, LEAST_HALF, FAR, even_table(2, 4, 6, 1, -1, 0)):
+            for name, call, handed in asked_of(form):
+                yield name, call, copy.deepcopy(handed)
+
+    def test_told_is_new_and_handed_in_stays(self):
+        for name, call, handed in self.cases():
+            with self.subTest(name=name):
+                kept = copy.deepcopy(handed)
+                told = call(*handed)
+                self.assertEqual(handed, kept)
+                lists = [id(one) for one in samples.lists_in(told)]
+                self.assertEqual(len(set(lists)), len(lists))
+                self.assertFalse(set(lists) & {id(one) for one in samples.lists_in(handed)})
+
+    def test_told_changed_changes_nothing_else(self):
+        for name, call, handed in self.cases():
+            with self.subTest(name=name):
+                start = copy.deepcopy(handed)
+                told = call(*handed)
+                kept = copy.deepcopy(told)
+                samples.spoil(told)
+                self.assertEqual(handed, start)
+                self.assertEqual(call(*handed), kept)
+
+    def test_changed_behind_the_call(self):
+        for name, call, handed in self.cases():
+            with self.subTest(name=name):
+                start = copy.deepcopy(handed)
+                told = call(*handed)
+                kept = copy.deepcopy(told)
+                samples.spoil(handed)
+                self.assertEqual(told, kept)
+                self.assertEqual(call(*start), kept)
+
+    def test_asked_later_changes_nothing_told(self):
+        told = [(call(*handed), call, handed) for name, call, handed in self.cases()]
+        kept = copy.deepcopy([one for one, call, handed in told])
+        for one, call, handed in reversed(told):
+            call(*handed)
+        self.assertEqual([one for one, call, handed in told], kept)
+
+    def test_the_same_list_changed_between_two_calls(self):
+        form = copy.deepcopy(SQUARES)
+        self.assertEqual((how_many(form, 1), turnings_many(form), len(lines(form, 3))), (6, 48, 4))
+        form[2][2] = 4
+        self.assertEqual((how_many(form, 1), turnings_many(form), len(lines(form, 3))), (4, 16, 4))
+        self.assertEqual(least(form)[0], even_table(2, 2, 4, 0, 0, 0))
+        self.assertIsNone(alike(form, SQUARES))
+        form[2][2] = -2
+        with self.assertRaises(NoForm):
+            how_many(form, 1)
+
+    def test_what_was_told_is_handed_in_again(self):
+        far = samples.plain_carried(even_table(2, 4, 6, 1, -1, 0), samples.bases(9)[3])
+        told, basis = least(far)
+        self.assertEqual(least(told)[0], told)
+        self.assertIsNotNone(alike(told, far))
+        line = lines(far, 7)[0]
+        self.assertEqual(line_of(far, 7, lift(far, 7, line)), line)
+        for row in rows_of(far, 14):
+            self.assertIsNotNone(line_of(far, 7, row))
+
+    def test_refused_changes_nothing(self):
+        for name, call, more in CALLS:
+            for start in (even_table(2, 2, 134, 1, 0, 0), NOUGHT, [[2, 0], [0, 2]]):
+                form, handed = copy.deepcopy(start), copy.deepcopy(more)
+                with self.assertRaises((NoForm, TooGreat)):
+                    call(form, *handed)
+                self.assertEqual((form, handed), (start, more))
+
+
+if __name__ == "__main__":
+    unittest.main()
