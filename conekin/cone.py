@@ -51,17 +51,34 @@ def line_of(form, p, row):
     return line_under(form, p, row)
 
 
+def slopes(form, p, line):
+    """The pairings of a line with the rows that have 1 at one place and 0 elsewhere, but for multiples of p."""
+    return [sum(line[i] * form[i][j] for i in range(3)) % p for j in range(3)]
+
+
+def last_slope(told):
+    """The last place that has a slope."""
+    # There is one, as p doesn't divide the determinant.
+    return max(j for j in range(3) if told[j] != 0)
+
+
 def first_lift(form, p, line):
     """The lift of a line of a form and its prime."""
     # Moved on by p at one place, the worth moves on by p times the slope there, but for multiples of p p. The first
-    # row keeps as many of its first places as can be, so it is moved on at the last place alone that has a slope;
-    # there is one, as p doesn't divide the determinant.
-    slopes = [sum(line[i] * form[i][j] for i in range(3)) % p for j in range(3)]
-    at = max(j for j in range(3) if slopes[j] != 0)
-    times = -(worth(form, line) // p) * upturned(slopes[at], p) % p
+    # row keeps as many of its first places as can be, so it is moved on at the last place alone that has a slope.
+    slants = slopes(form, p, line)
+    at = last_slope(slants)
+    times = -(worth(form, line) // p) * upturned(slants[at], p) % p
     told = list(line)
     told[at] += times * p
     return told
+
+
+def refuse_no_line(form, p, line):
+    """Lets by the lines of a form and a prime of its own [NoForm, TooGreat, NoPrime, NoLine]."""
+    refuse_no_prime(form, p)
+    if not is_line(form, p, line):
+        raise NoLine("this is no line of the form and the prime")
 
 
 def lift(form, p, line):
@@ -69,7 +86,5 @@ def lift(form, p, line):
 
     [NoForm, TooGreat, NoPrime, NoLine]
     """
-    refuse_no_prime(form, p)
-    if not is_line(form, p, line):
-        raise NoLine("this is no line of the form and the prime")
+    refuse_no_line(form, p, line)
     return first_lift(form, p, line)

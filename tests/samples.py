@@ -106,6 +106,16 @@ NEAR_FORMS = [
 ]
 
 
+# Forms of half determinants to 100 whose books have one kind, some, or seven. Of those of the half determinants 27, 64
+# and 81 the one prime reaches kinds that another one doesn't.
+BOOKED_FORMS = [
+    even_table(2, 2, 2, 0, 0, 0), LEAST_HALF, even_table(2, 4, 6, 1, -1, 0), even_table(2, 2, 18, -1, 0, 0),
+    even_table(2, 2, 32, -1, -1, 0), even_table(4, 4, 10, 0, -2, -2), even_table(2, 4, 18, 0, 0, -1),
+    even_table(2, 2, 54, -1, 0, 0), even_table(2, 6, 14, 0, -1, 0), even_table(2, 2, 66, 1, 0, 0),
+    even_table(2, 2, 50, 0, 0, 0),
+]
+
+
 def small_forms(half):
     """All tables of a half determinant that are as point 13 says of least forms: each least form is one of them."""
     for a, b in product(range(2, 2 * half + 1, 2), repeat=2):
@@ -114,6 +124,19 @@ def small_forms(half):
                 c, left = divmod(2 * half + a * f * f - 2 * d * e * f + b * e * e, a * b - d * d)
                 if left == 0 and c % 2 == 0 and c >= b and a * b * c <= 4 * half:
                     yield even_table(a, b, c, d, e, f)
+
+
+PRIMES = (3, 5, 7, 11, 13)
+
+
+def primes_of(form):
+    return [p for p in PRIMES if plain_determinant(form) // 2 % p]
+
+
+def no_primes():
+    """Things that are primes of no form."""
+    told = [0, 1, 2, 4, 6, 8, 9, 10, 12, 14, 15, 17, 19, 23, 26, 169, -3, -5, -13, THIRTY]
+    return told + [True, False, None, "", "3", "7", [], [3], (), (3,), [[7]]] + any_things()[6:]
 
 
 def far_bases(form):
@@ -268,6 +291,48 @@ def plain_least(form):
                     far = plain_pairing(form, [x, y, z], third)
                     best = min(best, [a, b, c, mixed, far, plain_pairing(form, other, third)])
     return best
+
+
+def plain_lines(form, p):
+    """By going through all rows of numbers from 0 to p - 1."""
+    told = []
+    for row in product(range(p), repeat=3):
+        others = [number for number in row if number]
+        if others and others[0] == 1 and plain_worth(form, row) % p == 0:
+            told.append(list(row))
+    return told
+
+
+def plain_lift(form, p, line):
+    """By going through all rows of numbers from 0 to p p - 1 that are the line but for multiples of p."""
+    for row in product(*[range(number, p * p, p) for number in line]):
+        if plain_worth(form, row) % (p * p) == 0:
+            return list(row)
+
+
+def plain_is_good(form, p, line, lifted, row):
+    """As point 18 says, by going through the numbers of times the line."""
+    times = [k for k in range(p) if all((y - k * x) % p == 0 for x, y in zip(line, row))]
+    return bool(times) and plain_pairing(form, lifted, row) % (p * p) == 0
+
+
+def plain_is_step(form, p, line, table):
+    lifted = plain_lift(form, p, line)
+    good = all(plain_is_good(form, p, line, lifted, row) for row in table)
+    return good and plain_determinant(table) in (p ** 3, -p ** 3)
+
+
+def plain_made(form, p, step):
+    """The form carried by a step, each number divided by p p, or None where one is not divided."""
+    told = plain_carried(form, step)
+    if any(number % (p * p) for row in told for number in row):
+        return None
+    return [[number // (p * p) for number in row] for row in told]
+
+
+def plain_is_form(table):
+    even = table == plain_turned(table) and all(table[i][i] % 2 == 0 for i in range(3))
+    return even and gives_above_nought(table)
 
 
 def gives_above_nought(table):

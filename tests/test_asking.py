@@ -1,11 +1,14 @@
-"""Points 2 and 8 of all functions that take forms of half determinants to 200."""
+"""Points 2 and 8 of all functions that take forms, of half determinants to 200 or, for books, to 100."""
 
 import copy
 import unittest
 
+from conekin.beside import beside, is_step, way_back
+from conekin.books import book, kin_by_two
 from conekin.cone import lift, line_of, lines
-from conekin.errors import NoForm, TooGreat
+from conekin.errors import KinError, NoForm, NoLine, NoPrime, NoStep, NoWorth, TooGreat
 from conekin.least import alike, least
+from conekin.led import led, led_alone, sign
 from conekin.rows import counts_to, how_many, least_worth, rows_of
 from conekin.turnings import turnings, turnings_many
 from tests import samples
@@ -22,6 +25,18 @@ CALLS = [
     ("alike", lambda one, other: alike(other, one), (SQUARES,)),
 ]
 
+# What is asked of a line: of the sum of three squares this is one.
+LINE_CALLS = [
+    ("lift", lift, (7, [1, 2, 3])), ("beside", beside, (7, [1, 2, 3])), ("is_step", is_step, (7, [1, 2, 3], SQUARES)),
+    ("way_back", way_back, (7, [1, 2, 3], [[1, 2, 17], [0, 7, 28], [0, 0, 49]])),
+]
+
+# What takes half determinants to 100.
+BOOK_CALLS = [
+    ("book", book, (7,)), ("kin_by_two", kin_by_two, (7, 13)), ("kin_by_two", kin_by_two, (13, 7)),
+    ("sign", sign, (7, 3)), ("led", led, (7, 2)), ("led_alone", led_alone, (7, 2)), ("led_alone", led_alone, (7, 0)),
+]
+
 
 def asked_of(form):
     """All calls, with a list of what is handed in, such as can be asked of a form."""
@@ -31,12 +46,21 @@ def asked_of(form):
         told.append(("line_of", line_of, [form, 7, [3 * number - 7 for number in line]]))
         told.append(("line_of", line_of, [form, 7, line]))
         told.append(("lift", lift, [form, 7, line]))
+        told.append(("beside", beside, [form, 7, line]))
+        step = beside(form, 7, line)[1]
+        told += [("is_step", is_step, [form, 7, line, step]), ("is_step", is_step, [form, 7, line, form])]
+        told += [("way_back", way_back, [form, 7, line, step]), ("way_back", way_back, [form, 7, line, step[::-1]])]
     return told
+
+
+def asked_of_booked(form):
+    """As asked_of, with what books tell."""
+    return asked_of(form) + [(name, call, [form] + list(more)) for name, call, more in BOOK_CALLS]
 
 
 class Bounds(unittest.TestCase):
     def calls(self, form):
-        for name, call, more in CALLS + [("lift", lift, (7, [0, 1, 2]))]:
+        for name, call, more in CALLS + LINE_CALLS + BOOK_CALLS:
             yield name, lambda: call(copy.deepcopy(form), *copy.deepcopy(more))
 
     def test_no_form_of_any_thing(self):
@@ -57,6 +81,20 @@ class Bounds(unittest.TestCase):
                 with self.subTest(name=name, form=form), self.assertRaises(TooGreat):
                     call()
 
+    def test_too_great_for_books(self):
+        forms = [even_table(2, 2, 68, -1, -1, 0), even_table(2, 2, 68, 1, 0, 0), even_table(2, 2, 100, 0, 0, 0)]
+        for form in forms + [samples.plain_carried(forms[0], samples.far_bases(forms[0])[-1])]:
+            for name, call, more in BOOK_CALLS:
+                with self.subTest(name=name, form=form), self.assertRaises(TooGreat):
+                    call(form, *more)
+
+    def test_the_greatest_that_are_taken_for_books(self):
+        for form in (even_table(2, 2, 50, 0, 0, 0), even_table(2, 4, 26, 0, 0, 2)):
+            for far in [form, samples.plain_carried(form, samples.far_bases(form)[-1])]:
+                for name, call, handed in asked_of_booked(far):
+                    with self.subTest(name=name):
+                        call(*handed)
+
     def test_the_greatest_that_are_taken(self):
         for form in (even_table(2, 2, 100, 0, 0, 0), even_table(2, 10, 20, 0, 0, 0), even_table(2, 2, 132, 1, 0, 0)):
             for far in [form, samples.plain_carried(form, samples.far_bases(form)[-1])]:
@@ -68,7 +106,7 @@ class Bounds(unittest.TestCase):
 class OwnLists(unittest.TestCase):
     def cases(self):
         for form in (SQUARES, LEAST_HALF, FAR, even_table(2, 4, 6, 1, -1, 0)):
-            for name, call, handed in asked_of(form):
+            for name, call, handed in asked_of_booked(form):
                 yield name, call, copy.deepcopy(handed)
 
     def test_told_is_new_and_handed_in_stays(self):
@@ -128,14 +166,31 @@ class OwnLists(unittest.TestCase):
         self.assertEqual(line_of(far, 7, lift(far, 7, line)), line)
         for row in rows_of(far, 14):
             self.assertIsNotNone(line_of(far, 7, row))
+        made, step = beside(far, 7, line)
+        line_home, step_home = way_back(far, 7, line, step)
+        self.assertEqual(way_back(made, 7, line_home, step_home), (line, step))
+        for kind in book(made, 7)[0]:
+            self.assertEqual(book(kind, 7)[0][0], kind)
 
     def test_refused_changes_nothing(self):
-        for name, call, more in CALLS:
+        for name, call, more in CALLS + LINE_CALLS + BOOK_CALLS:
             for start in (even_table(2, 2, 134, 1, 0, 0), NOUGHT, [[2, 0], [0, 2]]):
                 form, handed = copy.deepcopy(start), copy.deepcopy(more)
                 with self.assertRaises((NoForm, TooGreat)):
                     call(form, *handed)
                 self.assertEqual((form, handed), (start, more))
+
+    def test_refused_for_other_things_changes_nothing(self):
+        line, step = [1, 2, 3], [[1, 2, 17], [0, 7, 28], [0, 0, 49]]
+        cases = [(NoPrime, book, [[7]]), (NoPrime, kin_by_two, [7, [13]]), (NoPrime, sign, [[7], 3])]
+        cases += [(NoLine, beside, [7, [1, 2, 5]]), (NoLine, is_step, [7, [line], step]), (NoWorth, led, [7, [2]])]
+        cases += [(NoStep, way_back, [7, line, SQUARES]), (NoWorth, led_alone, [7, [[2], 3]])]
+        for error, call, more in copy.deepcopy(cases):
+            form, handed = copy.deepcopy(SQUARES), copy.deepcopy(more)
+            with self.assertRaises(KinError) as caught:
+                call(form, *handed)
+            self.assertIs(type(caught.exception), error)
+            self.assertEqual((form, handed), (SQUARES, more))
 
 
 if __name__ == "__main__":

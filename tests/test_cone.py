@@ -7,19 +7,13 @@ from itertools import product as every
 from conekin.cone import lift, line_of, lines
 from conekin.errors import NoForm, NoLine, NoPrime, TooGreat
 from tests import samples
-from tests.samples import NEAR_FORMS, THIRTY, even_table
+from tests.samples import NEAR_FORMS, PRIMES, THIRTY, even_table, plain_lift, plain_lines, primes_of
 
 SQUARES = even_table(2, 2, 2, 0, 0, 0)
 TOO_GREAT = even_table(2, 2, 134, 1, 0, 0)
 NO_FORM = even_table(2, 2, 2, -1, -1, -1)
-PRIMES = (3, 5, 7, 11, 13)
-NO_PRIMES = [0, 1, 2, 4, 6, 8, 9, 10, 12, 14, 15, 17, 19, 23, 26, 169, -3, -5, -13, THIRTY]
-NO_PRIMES += [True, False, None, "", "3", "7", [], [3], (), (3,), [[7]]] + samples.any_things()[6:]
+NO_PRIMES = samples.no_primes()
 NO_LINES = samples.any_things() + samples.wrong_shapes(SQUARES) + [SQUARES, [0, 0], [0, 0, 0, 0], "000"]
-
-
-def primes_of(form):
-    return [p for p in PRIMES if samples.plain_determinant(form) // 2 % p]
 
 
 def cases():
@@ -29,23 +23,6 @@ def cases():
             far = samples.plain_carried(form, basis)
             for p in primes_of(form):
                 yield far, p
-
-
-def plain_lines(form, p):
-    """By going through all rows of numbers from 0 to p - 1."""
-    told = []
-    for row in every(range(p), repeat=3):
-        others = [number for number in row if number]
-        if others and others[0] == 1 and samples.plain_worth(form, row) % p == 0:
-            told.append(list(row))
-    return told
-
-
-def plain_lift(form, p, line):
-    """By going through all rows of numbers from 0 to p p - 1 that are the line but for multiples of p."""
-    for row in every(*[range(number, p * p, p) for number in line]):
-        if samples.plain_worth(form, row) % (p * p) == 0:
-            return list(row)
 
 
 class Lines(unittest.TestCase):
