@@ -36,9 +36,10 @@ def kinds_met(form, primes):
     kinds, met = [least(form)[0]], []
     while len(met) < len(kinds):
         found = [kinds_beside(kinds[len(met)], p) for p in primes]
-        for kind in [kind for by_prime in found for kind in by_prime]:
-            if kind not in kinds:
-                kinds.append(kind)
+        for by_prime in found:
+            for kind in by_prime:
+                if kind not in kinds:
+                    kinds.append(kind)
         met.append(found)
     return kinds, met
 

@@ -7,10 +7,14 @@ from conekin.tables import is_row, is_whole
 PRIMES = (3, 5, 7, 11, 13)
 
 
+def is_prime_by(halved, thing):
+    """Whether any thing is a prime of the forms of a half determinant."""
+    return is_whole(thing) and thing in PRIMES and halved % thing != 0
+
+
 def refuse_no_prime(form, p):
     """Lets by the primes of a form [NoForm, TooGreat, NoPrime]."""
-    told = half(form)
-    if not is_whole(p) or p not in PRIMES or told % p == 0:
+    if not is_prime_by(half(form), p):
         raise NoPrime("this is no prime of the form")
 
 

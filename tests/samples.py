@@ -330,6 +330,14 @@ def plain_made(form, p, step):
     return [[number // (p * p) for number in row] for row in told]
 
 
+def plain_sign(form, p, n):
+    """As point 25 says, by going through the squares."""
+    if n % p == 0:
+        return 0
+    squares = {number * number % p for number in range(p)}
+    return 1 if -n * (plain_determinant(form) // 2) % p in squares else -1
+
+
 def plain_is_form(table):
     even = table == plain_turned(table) and all(table[i][i] % 2 == 0 for i in range(3))
     return even and gives_above_nought(table)

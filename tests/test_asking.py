@@ -9,7 +9,10 @@ from conekin.cone import lift, line_of, lines
 from conekin.errors import KinError, NoForm, NoLine, NoPrime, NoStep, NoWorth, TooGreat
 from conekin.least import alike, least
 from conekin.led import led, led_alone, sign
+from conekin.papers import is_right, paper
 from conekin.rows import counts_to, how_many, least_worth, rows_of
+from conekin.shares import polynomial, shared, weight
+from conekin.texts import show
 from conekin.turnings import turnings, turnings_many
 from tests import samples
 from tests.samples import LEAST_HALF, NOUGHT, ONE, even_table
@@ -22,7 +25,7 @@ CALLS = [
     ("counts_to", counts_to, (6,)), ("least_worth", least_worth, ()), ("least", least, ()),
     ("turnings", turnings, ()), ("turnings_many", turnings_many, ()), ("lines", lines, (7,)), ("lines", lines, (13,)),
     ("line_of", line_of, (7, [3, -2, 8])), ("alike", alike, (SQUARES,)),
-    ("alike", lambda one, other: alike(other, one), (SQUARES,)),
+    ("alike", lambda one, other: alike(other, one), (SQUARES,)), ("show", show, ()),
 ]
 
 # What is asked of a line: of the sum of three squares this is one.
@@ -35,6 +38,7 @@ LINE_CALLS = [
 BOOK_CALLS = [
     ("book", book, (7,)), ("kin_by_two", kin_by_two, (7, 13)), ("kin_by_two", kin_by_two, (13, 7)),
     ("sign", sign, (7, 3)), ("led", led, (7, 2)), ("led_alone", led_alone, (7, 2)), ("led_alone", led_alone, (7, 0)),
+    ("weight", weight, (7,)), ("shared", shared, (7, 2)), ("paper", paper, (7,)), ("is_right", is_right, ((7, []),)),
 ]
 
 
@@ -55,7 +59,8 @@ def asked_of(form):
 
 def asked_of_booked(form):
     """As asked_of, with what books tell."""
-    return asked_of(form) + [(name, call, [form] + list(more)) for name, call, more in BOOK_CALLS]
+    told = asked_of(form) + [(name, call, [form] + list(more)) for name, call, more in BOOK_CALLS]
+    return told + [("is_right", is_right, [form, paper(form, 7)]), ("polynomial", polynomial, [book(form, 7)[1]])]
 
 
 class Bounds(unittest.TestCase):
@@ -171,6 +176,8 @@ class OwnLists(unittest.TestCase):
         self.assertEqual(way_back(made, 7, line_home, step_home), (line, step))
         for kind in book(made, 7)[0]:
             self.assertEqual(book(kind, 7)[0][0], kind)
+        self.assertTrue(is_right(made, paper(made, 7)))
+        self.assertEqual(polynomial(book(made, 7)[1]), polynomial(book(far, 7)[1]))
 
     def test_refused_changes_nothing(self):
         for name, call, more in CALLS + LINE_CALLS + BOOK_CALLS:
@@ -185,6 +192,7 @@ class OwnLists(unittest.TestCase):
         cases = [(NoPrime, book, [[7]]), (NoPrime, kin_by_two, [7, [13]]), (NoPrime, sign, [[7], 3])]
         cases += [(NoLine, beside, [7, [1, 2, 5]]), (NoLine, is_step, [7, [line], step]), (NoWorth, led, [7, [2]])]
         cases += [(NoStep, way_back, [7, line, SQUARES]), (NoWorth, led_alone, [7, [[2], 3]])]
+        cases += [(NoPrime, weight, [[7]]), (NoWorth, shared, [7, [2]]), (NoPrime, paper, [[7]])]
         for error, call, more in copy.deepcopy(cases):
             form, handed = copy.deepcopy(SQUARES), copy.deepcopy(more)
             with self.assertRaises(KinError) as caught:

@@ -7,7 +7,7 @@ from conekin.errors import NoForm, NoPrime, NoWorth, TooGreat
 from conekin.led import led, led_alone, sign
 from conekin.near import near
 from tests import samples
-from tests.samples import BOOKED_FORMS, PRIMES, THIRTY, even_table, primes_of
+from tests.samples import BOOKED_FORMS, PRIMES, THIRTY, even_table, plain_sign, primes_of
 
 SQUARES = even_table(2, 2, 2, 0, 0, 0)
 NO_FORM = even_table(2, 2, 2, -1, -1, -1)
@@ -23,14 +23,6 @@ def cases():
         for p in primes_of(form):
             basis = samples.far_bases(form)[-1 - at % 3]
             yield form, samples.plain_carried(form, basis) if (at + p) % 4 else form, p
-
-
-def plain_sign(form, p, n):
-    """By going through the squares."""
-    if n % p == 0:
-        return 0
-    squares = {number * number % p for number in range(p)}
-    return 1 if -n * (samples.plain_determinant(form) // 2) % p in squares else -1
 
 
 class Sign(unittest.TestCase):
