@@ -20,7 +20,8 @@ def is_form(thing):
 
 def pairing(table, one, other):
     """The sum of one's number i times the table's (i, j) times other's number j."""
-    return sum(one[i] * table[i][j] * other[j] for i in range(3) for j in range(3))
+    x, y, z = other
+    return sum(number * (row[0] * x + row[1] * y + row[2] * z) for number, row in zip(one, table))
 
 
 def worth(table, row):

@@ -43,7 +43,8 @@ def signed_minor(table, i, j):
 
 def determinant(table):
     """The determinant of a table."""
-    return sum(table[0][j] * signed_minor(table, 0, j) for j in range(3))
+    (a, b, c), (d, e, f), (g, h, i) = table
+    return a * (e * i - f * h) + b * (f * g - d * i) + c * (d * h - e * g)
 
 
 def cover(table):

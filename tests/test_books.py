@@ -177,7 +177,7 @@ class KinByTwo(Checks):
     def test_pairs_of_primes(self):
         for form in BOOKED_FORMS:
             told = primes_of(form)
-            for p, q in list(permutations(told, 2))[::2] if len(told) > 3 else permutations(told, 2):
+            for p, q in list(permutations(told, 2))[::3] if len(told) > 3 else permutations(told, 2):
                 with self.subTest(form=form, p=p, q=q):
                     self.right(form, p, q)
 

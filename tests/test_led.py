@@ -90,7 +90,7 @@ class Led(unittest.TestCase):
         divided = 0
         for form, far, p in cases():
             most = 600 // (p * p)
-            for n in list(range(0, most + 1, 1 if p > 3 else 4)) + list(range(0, most + 1, p * p)):
+            for n in list(range(0, most + 1, 1 if p > 5 else 5)) + list(range(0, most + 1, p * p)):
                 with samples.in_time(20):
                     told = led_alone(far, p, n)
                 self.assertIs(type(told), int)
